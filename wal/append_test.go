@@ -126,7 +126,7 @@ func TestAFullSegmentIsSyncedFirst(t *testing.T) {
 	}{
 		{api.OK, []int{100, 101, 102}, 600, 1},
 		{api.ErrDown, []int{100, 101}, 0, 1},
-		{api.ErrDown, []int{100, 101, 102}, 600, 1},
+		{api.ErrDown, []int{100, 101, 102}, 600, 0},
 		{api.OK, []int{100, 101, 102}, 600, 1},
 	} {
 		p := begun(t, appends(sized(600)), fuses(fuse))
@@ -136,6 +136,44 @@ func TestAFullSegmentIsSyncedFirst(t *testing.T) {
 		if p.log.Pending() != want.pending {
 			t.Errorf("a fuse of %d: %d pending", fuse, p.log.Pending())
 		}
+	}
+}
+
+// What was synced isn't pending, also where the append behind it fails: by the
+// power, or since the disk has no room for a file more.
+func TestPendingOfAnAppendThatFails(t *testing.T) {
+	for _, c := range []struct {
+		calls   []call
+		fuse    int
+		pending int
+		records int
+	}{
+		{[]call{appends("a"), appends("b")}, 1, 2, 2},
+		{[]call{appends(sized(600))}, 1, 1, 1},
+		{[]call{appends(sized(600))}, 2, 0, 1},
+		{[]call{appends("a"), appends("b"), appends(sized(600))}, 1, 3, 3},
+		{[]call{appends("a"), appends("b"), appends(sized(600))}, 2, 0, 3},
+		{[]call{appends("a"), syncs(), appends(sized(600))}, 1, 1, 2},
+		{[]call{appends("a"), syncs(), appends(sized(600))}, 2, 0, 2},
+		{[]call{appends(sized(600)), appends(sized(600)), appends("c")}, 1, 1, 3},
+		{[]call{appends(sized(600)), syncs()}, 1, 0, 1},
+		{[]call{appends(sized(600)), syncs()}, 2, 0, 1},
+	} {
+		p := begun(t, append(c.calls, fuses(c.fuse))...)
+		if e := p.hold(t, appends("more")); e != api.ErrDown || p.log.Pending() != c.pending || len(p.log.Records()) != c.records {
+			t.Errorf("%v, a fuse of %d: %d, %d pending, %d records", c.calls, c.fuse, e, p.log.Pending(), len(p.log.Records()))
+		}
+		holdOver(t, p)
+		if p.log.Pending() != c.pending {
+			t.Errorf("%v, a fuse of %d: %d pending", c.calls, c.fuse, p.log.Pending())
+		}
+	}
+	p := begun(t, appends(sized(600)))
+	for no := 5000; len(p.disk.List()) < 110; no++ {
+		p.hold(t, lays(no, ""))
+	}
+	if e := p.hold(t, appends("b")); e != api.ErrFull || p.log.Pending() != 0 {
+		t.Error(e, p.log.Pending())
 	}
 }
 

@@ -339,9 +339,14 @@ func (m *model) ask(c call) api.Errno {
 		}
 		next, list = m.add(c.s)
 	}
-	if e := m.shelf.all(list); e != api.OK {
-		l.isOver = true
-		return e
+	for _, one := range list {
+		if e := m.shelf.do(one); e != api.OK {
+			l.isOver = true
+			return e
+		}
+		if c.name == "Append" && one.what == "Sync" {
+			l.pending = 0
+		}
 	}
 	m.log = &next
 	return api.OK

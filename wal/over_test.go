@@ -48,12 +48,12 @@ func bytesOf(size int) string {
 func TestOver(t *testing.T) {
 	for _, c := range ended() {
 		p := begun(t, c.calls...)
-		text, records, generation, pending := p.log.Text(), p.log.Records(), p.log.Generation(), p.log.Pending()
+		text, records, generation := p.log.Text(), p.log.Records(), p.log.Generation()
 		if e := p.hold(t, c.last); e != c.want {
 			t.Fatal(c.calls, c.last, e)
 		}
 		holdOver(t, p)
-		if p.log.Text() != text || !slices.Equal(p.log.Records(), records) || p.log.Generation() != generation || p.log.Pending() != pending {
+		if p.log.Text() != text || !slices.Equal(p.log.Records(), records) || p.log.Generation() != generation {
 			t.Errorf("%v, %v: %v", c.calls, c.last, p.log)
 		}
 		if !p.disk.On() {
